@@ -225,6 +225,16 @@ func TestVerifyAtTheEndsOfR(t *testing.T) {
 	}
 }
 
+// Three times -2^62 wraps round to 2^62, which is the power 31 of Base: a product that is not held within its limits would do.
+func TestVerifyTakesNoRThatWrapsRound(t *testing.T) {
+	data := []byte("hello")
+	for secret := 1; secret <= 50; secret++ {
+		if impl.Verify(impl.PublicOf(secret), data, impl.Sig{R: -1 << 62, Z: 31}) {
+			t.Errorf("secret %d: R -2^62: want false", secret)
+		}
+	}
+}
+
 // evenBound finds a k whose e is even, so that a number and its negative have one power e.
 func evenBound(data []byte) (int, int) {
 	for k := 1; ; k++ {
