@@ -449,6 +449,9 @@ func TestAnEmptyListOfRolesIsTheNilList(t *testing.T) {
 				t.Errorf("Unused: want none")
 			}
 		}
+		if got := impl.Unused(s, events[:3]); got != nil {
+			t.Errorf("Unused: got %#v", got)
+		}
 		for _, st := range []impl.RoleState{{}, {Outcomes: []int{}, Grants: []impl.RoleGrant{}, Sessions: []impl.RoleSession{}}, {Sessions: []impl.RoleSession{{Id: "s", Roles: []string{}, Glass: []impl.RoleGrant{}}}}} {
 			if impl.Authorised(s, st, "ann", 0) != nil || impl.MayDo(s, st, "s", "pa", 0) || !impl.KeptApart(s, st, 0) {
 				t.Errorf("%#v: want nothing, and all apart", st)

@@ -600,7 +600,7 @@ func TestDelegating(t *testing.T) {
 	}
 }
 
-// mayBe are the roles for which the users are authorised, told as `ann 5: a b`.
+// askAuthorised is told for which roles users are authorised at a time: `ann 5: a b`.
 func askAuthorised(t *testing.T, name string, s impl.RoleSet, st impl.RoleState, told ...string) {
 	t.Helper()
 	for _, line := range told {
