@@ -47,6 +47,9 @@ func (a roleArguments) askWords(t *testing.T, what string) {
 	if got, want := impl.RunRoles(a.set, a.events), stateByWords(a.set, a.events); !sameRoleState(got, want) {
 		t.Errorf("%.200s: RunRoles told %.1000s, want %.1000s", what, roleStateText(got), roleStateText(want))
 	}
+	if good && len(a.events) <= impl.MaxEvents {
+		askPromise(t, a.set, a.events)
+	}
 	if got, want := impl.Unused(a.set, a.events), unusedByWords(a.set, a.events); !slices.Equal(got, want) {
 		t.Errorf("%.200s: Unused told %.1000s, want %.1000s", what, grantsText(got), grantsText(want))
 	}
@@ -383,6 +386,7 @@ func manyRoleArguments() []roleArguments {
 
 func TestArgumentsOfRolesStayAsTheyWere(t *testing.T) {
 	for i, plain := range manyRoleArguments() {
+		plain.askWords(t, "arguments "+strconv.Itoa(i))
 		a := plain.roomy()
 		before := a.opened()
 		first := a.ask()
@@ -438,7 +442,7 @@ func TestAnEmptyListOfRolesIsTheNilList(t *testing.T) {
 			t.Errorf("JuniorsOf: got %q", got)
 		}
 		want := impl.RoleState{Outcomes: make([]int, 6), Sessions: []impl.RoleSession{{Id: "s", User: "ann"}}, Time: 2}
-		if got := impl.RunRoles(s, events); !reflect.DeepEqual(got, want) {
+		if got := askPromise(t, s, events); !reflect.DeepEqual(got, want) {
 			t.Errorf("RunRoles: got %#v", got)
 		}
 		for _, few := range [][]impl.RoleEvent{nil, {}, events[:0]} {

@@ -50,7 +50,7 @@ func TestRoleSetsWithEachByte(t *testing.T) {
 				t.Errorf("a perm %q: got %v", text, got)
 			}
 			e := impl.RoleEvent{Kind: impl.EventOpen, User: text, Session: text}
-			if got := impl.RunRoles(impl.RoleSet{}, []impl.RoleEvent{e}); (got.Outcomes[0] == impl.DoneWell) != want {
+			if got := askPromise(t, impl.RoleSet{}, []impl.RoleEvent{e}); (got.Outcomes[0] == impl.DoneWell) != want {
 				t.Errorf("a user %q: got %v", text, got.Outcomes)
 			}
 		}
@@ -697,13 +697,14 @@ func TestTheLongestHistories(t *testing.T) {
 	for i := range impl.MaxEvents {
 		events = append(events, impl.RoleEvent{Kind: impl.EventOpen, Time: i, User: "ann", Session: "s" + strconv.Itoa(i)})
 	}
-	if st := impl.RunRoles(s, events); len(st.Outcomes) != 200 || len(st.Sessions) != 200 || st.Time != 199 || !impl.KeptApart(s, st, 199) {
+	if st := askHistory(t, s, events); len(st.Outcomes) != 200 || len(st.Sessions) != 200 || st.Time != 199 {
 		t.Errorf("MaxEvents sessions: got %d outcomes, %d sessions at %d", len(st.Outcomes), len(st.Sessions), st.Time)
 	}
 	for i := range events {
 		events[i] = impl.RoleEvent{Kind: impl.EventAssign, Time: i, User: "u" + strconv.Itoa(i), Role: countedRole(29)}
 	}
 	askHistory(t, countedRoles(30), events)
+	askHistory(t, s, events)
 	if got := impl.Unused(s, events); len(got) != 200 || got[7].User != "u7" {
 		t.Errorf("MaxEvents grants: %d are unused", len(got))
 	}
