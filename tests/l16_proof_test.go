@@ -121,6 +121,16 @@ func TestPassesThatAreShort(t *testing.T) {
 	}
 }
 
+// Where digests clash one pass does for another: no more of it was stored.
+func TestPassesWhoseDigestsClash(t *testing.T) {
+	one, other := clashingTexts()
+	for _, rounds := range []int{1, 2, 50} {
+		askPassCheck(t, storedOf("a"+one+"-1", "salt", rounds), "a"+other+"-1", true)
+		askPassCheck(t, storedOf("a"+one+"-1", "salt", rounds), "a"+other+"-2", false)
+		wantFaults(t, passCase{rule: impl.PassRule{Least: 1, Kept: 1}, pass: other, old: []impl.Stored{storedOf(one, "salt", rounds)}}, impl.PassOld)
+	}
+}
+
 func TestPassCheckTakesNothingElse(t *testing.T) {
 	for _, pass := range []string{"Secret-7", "", strings.Repeat("p", 64)} {
 		askPassCheck(t, storedOf(pass, "salt", 3), pass, true)
