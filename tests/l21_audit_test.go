@@ -494,6 +494,59 @@ func TestCheckBridgeTakesNoOthers(t *testing.T) {
 	}
 }
 
+// climbed is what a way comes to, whatever the lengths of the sums are: of all of them, and of those that stand ahead of the way.
+func climbed(sum []byte, list [][]byte, isAhead []bool) (all []byte, ahead []byte) {
+	all, ahead = sum, sum
+	for i, aside := range list {
+		if isAhead[i] {
+			all, ahead = jointByWords(aside, all), jointByWords(aside, ahead)
+			continue
+		}
+		all = jointByWords(all, aside)
+	}
+	return all, ahead
+}
+
+// Sums of other lengths are not taken, even where the roots are what they come to.
+func TestSumsOfOtherLengths(t *testing.T) {
+	for _, length := range []int{0, 1, 15, 16, 17, 32, 200} {
+		other, want := countedBytes(length), length == 16
+		// Entry 5 of 7 has entry 4 ahead of it, entry 6 behind it, and the first four ahead of it.
+		for place := range 4 {
+			sums := [][]byte{countedBytes(16), make([]byte, 16), countedBytes(16), make([]byte, 16)}
+			sums[place] = other
+			root, _ := climbed(sums[0], sums[1:], []bool{true, false, true})
+			if got := impl.CheckPath(sums[0], 5, 7, sums[1:], root); got != want {
+				t.Errorf("a path with %d bytes at %d: got %v", length, place, got)
+			}
+		}
+		// The first 6 of 13 end with entries 4 and 5; behind them two, ahead of them four, behind these five.
+		for place := range 4 {
+			sums := [][]byte{countedBytes(16), make([]byte, 16), countedBytes(16), make([]byte, 16)}
+			sums[place] = other
+			root, oldRoot := climbed(sums[0], sums[1:], []bool{false, true, false})
+			if got := impl.CheckBridge(6, 13, oldRoot, root, sums); got != want {
+				t.Errorf("a bridge with %d bytes at %d: got %v", length, place, got)
+			}
+		}
+		// The first 4 of 13 have four behind them, and five behind these.
+		for place := range 3 {
+			sums := [][]byte{countedBytes(16), make([]byte, 16), countedBytes(16)}
+			sums[place] = other
+			root, oldRoot := climbed(sums[0], sums[1:], []bool{false, false})
+			if got := impl.CheckBridge(4, 13, oldRoot, root, sums[1:]); got != want {
+				t.Errorf("a bridge of a whole tree with %d bytes at %d: got %v", length, place, got)
+			}
+		}
+		if got := impl.CheckPath(other, 0, 1, nil, other); got != want {
+			t.Errorf("the only one with %d bytes: got %v", length, got)
+		}
+		if got := impl.CheckBridge(7, 7, other, other, nil); got != want {
+			t.Errorf("all of them with %d bytes: got %v", length, got)
+		}
+	}
+}
+
 // These hold by the words though they were told of another size: the same sums stand on the same sides.
 func TestSizesThatAreAlikeByTheWords(t *testing.T) {
 	list := logged(7)
